@@ -1,0 +1,134 @@
+"""Rules of the Python subset that can be seen in the text of the package: a guard, not the whole of them."""
+
+import ast
+import unittest
+from pathlib import Path
+
+import unevenroads
+
+FOLDER = Path(unevenroads.__file__).parent
+
+NODES = (
+    "Module Import ImportFrom alias FunctionDef ClassDef arguments arg Expr Constant Name Load Store Assign AugAssign "
+    "Tuple List Dict Set Attribute Subscript Slice Call keyword Return If While For Break Continue Pass Raise Try "
+    "ExceptHandler BoolOp And Or UnaryOp Not USub BinOp Add Sub Mult FloorDiv Mod Pow BitAnd BitOr BitXor Compare Eq "
+    "NotEq Lt LtE Gt GtE Is IsNot In NotIn IfExp ListComp DictComp SetComp comprehension JoinedStr FormattedValue "
+    "Starred Lambda Delete Assert"
+).split()
+
+BUILTINS = (
+    "len range enumerate zip min max sum abs sorted reversed int str bool list tuple dict set isinstance any all "
+    "divmod ValueError"
+).split()
+
+METHODS = (
+    "append clear copy count endswith extend find get index insert isdigit items join keys partition pop remove "
+    "replace setdefault split startswith strip update values"
+).split()
+
+BARRED = ("mro elements open input law register type typing enum Enum namedtuple dataclass overload contextmanager "
+          "exec eval compile globals locals vars dir id help exit quit hash next iter map round filter print").split()
+
+
+def sources():
+    """The name, the text and the tree of each file of the package."""
+    found = []
+    for path in sorted(FOLDER.glob("*.py")):
+        text = path.read_text(encoding="ascii")
+        found.append((path.name, text, ast.parse(text)))
+    return found
+
+
+class LanguageTest(unittest.TestCase):
+
+    def test_the_folder_holds_plain_files_alone(self):
+        names = [path.name for path in FOLDER.iterdir() if path.name != "__pycache__"]
+        self.assertIn("__init__.py", names)
+        for name in names:
+            self.assertRegex(name, r"^[a-z0-9_]+\.py$")
+
+    def test_sizes_and_signs(self):
+        for name, text, tree in sources():
+            lines = text.split("\n")
+            self.assertLessEqual(len(lines), 399, name)
+            for line in lines:
+                self.assertLessEqual(len(line), 120, (name, line))
+                self.assertTrue(all([" " <= sign <= "~" for sign in line]), (name, line))
+            for node in ast.walk(tree):
+                if isinstance(node, ast.FunctionDef):
+                    self.assertLessEqual(node.end_lineno - node.lineno + 1, 40, (name, node.name))
+
+    def test_statements_and_expressions(self):
+        for name, _, tree in sources():
+            for node in ast.walk(tree):
+                self.assertIn(node.__class__.__name__, NODES, (name, getattr(node, "lineno", 0)))
+                if isinstance(node, ast.Constant):
+                    self.assertNotIsInstance(node.value, (float, complex), name)
+                    if isinstance(node.value, str):
+                        self.assertNotIn("%", node.value, name)
+                if isinstance(node, ast.FunctionDef):
+                    self.assertEqual(node.decorator_list, [], (name, node.name))
+
+    def test_module_level(self):
+        for name, _, tree in sources():
+            bound = []
+            for node in tree.body:
+                allowed = (ast.Expr, ast.ImportFrom, ast.FunctionDef, ast.ClassDef, ast.Assign)
+                self.assertIsInstance(node, allowed, name)
+                if isinstance(node, ast.ImportFrom):
+                    bound.extend([alias.name for alias in node.names])
+                elif isinstance(node, ast.Assign):
+                    self.assertEqual(len(node.targets), 1, name)
+                    bound.append(node.targets[0].id)
+                elif not isinstance(node, ast.Expr):
+                    bound.append(node.name)
+            self.assertEqual(len(bound), len(set(bound)), name)
+            self.check_inner_names(name, tree, bound)
+
+    def check_inner_names(self, name, tree, bound):
+        for node in ast.walk(tree):
+            inner = None
+            if isinstance(node, ast.arg):
+                inner = node.arg
+            elif isinstance(node, ast.Name) and isinstance(node.ctx, ast.Store) and node not in self.targets(tree):
+                inner = node.id
+            if inner is not None:
+                self.assertNotIn(inner, bound, name)
+                self.assertNotIn(inner, BUILTINS + BARRED, (name, node.lineno))
+
+    def targets(self, tree):
+        return [node.targets[0] for node in tree.body if isinstance(node, ast.Assign)]
+
+    def test_imports(self):
+        table = {}
+        for name, _, tree in sources():
+            table[name[:-3]] = []
+            for node in ast.walk(tree):
+                if isinstance(node, ast.ImportFrom):
+                    self.assertEqual((node.level, node.module.split(".")[0]), (0, "unevenroads"), name)
+                    self.assertEqual([alias.asname for alias in node.names], [None] * len(node.names), name)
+                    table[name[:-3]].append(node.module.split(".")[1])
+        while table:
+            free = [name for name in table if not [used for used in table[name] if used in table]]
+            self.assertNotEqual(free, [], "these files import from each other in a round: " + str(sorted(table)))
+            table = {name: table[name] for name in table if name not in free}
+
+    def test_calls(self):
+        for name, _, tree in sources():
+            known = list(BUILTINS)
+            for node in ast.walk(tree):
+                if isinstance(node, (ast.FunctionDef, ast.ClassDef)):
+                    known.append(node.name)
+                elif isinstance(node, ast.ImportFrom):
+                    known.extend([alias.name for alias in node.names])
+            for node in ast.walk(tree):
+                if isinstance(node, ast.Call) and isinstance(node.func, ast.Name):
+                    self.assertIn(node.func.id, known, (name, node.lineno))
+                elif isinstance(node, ast.Call):
+                    self.assertIn(node.func.attr, METHODS, (name, node.lineno))
+
+    def test_words_that_are_not_used(self):
+        for name, _, tree in sources():
+            for node in ast.walk(tree):
+                word = getattr(node, "id", getattr(node, "attr", getattr(node, "name", None)))
+                self.assertNotIn(word, BARRED, (name, getattr(node, "lineno", 0)))

@@ -1,0 +1,1 @@
+"""Unevenroads: loads on roads that may be changed only between places of unlike sums."""
