@@ -5,8 +5,12 @@ import unittest
 from copy import deepcopy
 from importlib import import_module
 
-from tests.samples import ODD_VALUES, ROW
+from tests.samples import FORK, FULL_4, ODD_VALUES, ROW, STAR
 from unevenroads.errors import UnevenError
+
+DEEDS = [(1, 1), [1, 1], (1, -1)] + ODD_VALUES
+WAY = ((1, 1), (0, -1), (2, 1))
+WAYS = [WAY, list(WAY), WAY[1:], ()] + ODD_VALUES + [WAY + (value,) for value in ODD_VALUES]
 
 # For each module its functions, their arguments, and some calls.
 INTERFACE = {
@@ -32,6 +36,35 @@ INTERFACE = {
         ("read_web", "value", [["2 0-1:9"]] + [[value] for value in ODD_VALUES]),
         ("standing_text", "standing", [[(0, 1, 2)]]),
         ("read_standing", "web value", [[ROW, "012"]] + [[ROW, value] for value in ODD_VALUES]),
+    ],
+    "renamed": [
+        ("renamed_web", "web names", [[ROW, (1, 3, 0, 2)]]),
+        ("renamed_standing", "web names standing", [[ROW, (1, 3, 0, 2), (0, 1, 2)]]),
+    ],
+    "deeds": [
+        ("deed_error", "web standing value", [[ROW, (1, 0, 0), value] for value in DEEDS]),
+        ("let_deeds", "web standing", [[ROW, (1, 1, 1)]]),
+        ("done", "web standing deed", [[ROW, (1, 0, 0), value] for value in DEEDS]),
+    ],
+    "ways": [
+        ("way_error", "web standing value", [[ROW, (1, 0, 0), value] for value in WAYS]),
+        ("end_of", "web standing way", [[ROW, (1, 0, 0), value] for value in WAYS]),
+        ("standings_along", "web standing way", [[ROW, (1, 0, 0), value] for value in WAYS]),
+        ("turned", "way", [[WAY], [()]]),
+        ("shortened", "web standing way", [[ROW, (1, 0, 0), WAY], [ROW, (1, 0, 0), ()]]),
+        ("trodden", "way", [[WAY], [()]]),
+    ],
+    "parted": [
+        ("elder_tree", "web", [[STAR], [FORK]]),
+        ("parted_web", "s tree", [[4, ((0, 1), (0, 2), (0, 3))], [3, ((0, 1),)]]),
+    ],
+    "kinds": [
+        ("kind_of", "web", [[STAR], [FORK], [ROW]]),
+        ("row_of", "web", [[ROW], [FORK]]),
+    ],
+    "meets": [
+        ("meeting_paper", "web", [[STAR], [FORK], [FULL_4]]),
+        ("meeting_holds", "web value", [[FORK, (0, ("sides", 0, 1))]] + [[FORK, value] for value in ODD_VALUES]),
     ],
 }
 

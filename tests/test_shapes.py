@@ -63,7 +63,8 @@ class ShapesTest(unittest.TestCase):
             self.assertRaises(Unfit, full_web, n, 1)
 
     def test_boards_that_are_none(self):
-        for rows, columns in [(0, 0), (0, 3), (3, 0), (-1, 4), (4, -1), (-1, -1), (GREAT, 5 - GREAT), (5 - GREAT, GREAT),
+        for rows, columns in [(0, 0), (0, 3), (3, 0), (-1, 4), (4, -1), (-1, -1),
+                              (GREAT, 5 - GREAT), (5 - GREAT, GREAT),
                               (GREAT, GREAT), (1, GREAT), (GREAT, 1), (1, 24), (24, 1), (12, 12), (7, 6), (3, 14)]:
             self.assertRaises(Unfit, board_web, rows, columns, 1)
 

@@ -24,7 +24,8 @@ class StandingErrorTest(unittest.TestCase):
                 self.assertIsNone(standing_error(web, standing))
 
     def test_form(self):
-        for value in [(), (0,), (0, 0), (9, 9), (0, 0, 0, 0), (None, 9, -1, 0), "000", [0, 0, 0], {0: 0, 1: 0, 2: 0}, None, 0, ((0, 0, 0),)]:
+        for value in [(), (0,), (0, 0), (9, 9), (0, 0, 0, 0), (None, 9, -1, 0), "000",
+                      [0, 0, 0], {0: 0, 1: 0, 2: 0}, None, 0, ((0, 0, 0),)]:
             self.check(ROW, value, "form")
 
     def test_load(self):

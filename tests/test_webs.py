@@ -50,7 +50,8 @@ class WebErrorTest(unittest.TestCase):
         self.check((2, (None,) * 40, (0,)), ("road", 0))
 
     def test_road(self):
-        for road in [None, 1, "01", [0, 1], (), (0,), (0, 1, 2), (0, 0), (1, 0), (0, 4), (-1, 0), (0, GREAT), (-GREAT, 1),
+        for road in [None, 1, "01", [0, 1], (), (0,), (0, 1, 2), (0, 0), (1, 0), (0, 4), (-1, 0),
+                     (0, GREAT), (-GREAT, 1),
                      (0, True), (False, 1), ("0", "1"), (None, 1), ((0,), 1), (0, [1])]:
             self.check((4, (road,), (1,)), ("road", 0))
             self.check((4, ((0, 1), (1, 2), road), (1, 1, 1)), ("road", 2))

@@ -9,6 +9,9 @@ from unevenroads.webtexts import read_standing, read_web, standing_text, web_tex
 
 LARGE_WEBS = [path_web(24, 9), ring_web(24, 1), full_web(9, 4), board_web(2, 20, 3)]
 
+# All signs of printable ASCII, and the line feed.
+SIGNS = [chr(code) for code in range(32, 127)] + ["\n"]
+
 NO_WEBS = [
     "", " ", "2", "2 ", " 2 0-1:1", "2 0-1:1 ", "2  0-1:1", "2\n0-1:1", "2 0-1:1\n", "\n2 0-1:1", "2\t0-1:1",
     "02 0-1:1", "2 00-1:1", "2 0-01:1", "2 0-1:01", "+2 0-1:1", "2 +0-1:1", "2 0-+1:1", "2 0-1:+1", "2 0--1:1",
@@ -48,12 +51,25 @@ class WebTextTest(unittest.TestCase):
     def test_a_text_with_one_sign_more_or_less(self):
         text = web_text(ROW)
         for place in range(len(text)):
-            for spoilt in [text[:place] + sign + text[place:] for sign in " -:0a\n"] + [text[:place] + text[place + 1:]]:
+            longer = [text[:place] + sign + text[place:] for sign in " -:0a\n"]
+            for spoilt in longer + [text[:place] + text[place + 1:]]:
                 try:
                     web = read_web(spoilt)
                 except BadText:
                     continue
                 self.assertEqual(web_text(web), spoilt)
+
+    def test_signs_that_are_no_figures(self):
+        for sign in SIGNS:
+            if sign not in "123456789":
+                self.assertRaises(BadText, read_web, "2 0-1:" + sign)
+                self.assertRaises(BadText, read_web, sign + " 0-1:1")
+                self.assertRaises(BadText, read_web, "2 0-" + sign + ":1")
+            if sign != "0":
+                self.assertRaises(BadText, read_web, "2 " + sign + "-1:1")
+            if sign not in "0123456789":
+                self.assertRaises(BadText, read_web, "2" + sign + " 0-1:1")
+                self.assertRaises(BadText, read_standing, ROW, "01" + sign)
 
     def test_odd_values(self):
         for value in ODD_VALUES + [ROW, web_text(ROW).encode(), [web_text(ROW)], (web_text(ROW),)]:
