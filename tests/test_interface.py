@@ -5,11 +5,22 @@ import unittest
 from copy import deepcopy
 from importlib import import_module
 
-from tests.samples import FORK, FULL_4, ODD_VALUES, ROW, STAR
+from tests.samples import FORK, FULL_4, KITE, ODD_VALUES, PAIR, ROUND_5, ROW, ROW_5, STAR
 from unevenroads.errors import UnevenError
+from unevenroads.shapes import board_web, full_web, path_web, ring_web
 
 DEEDS = [(1, 1), [1, 1], (1, -1)] + ODD_VALUES
 WAY = ((1, 1), (0, -1), (2, 1))
+FIVE = (1, 0, 0, 1)
+SIX = (0, 0, 0, 1, 1, 1)
+PAPERS = [("even", 0), ("walls", 0, 2), ["even", 0], ("even", False)] + ODD_VALUES
+SORTS = [("walls", 2), ("walls", 3), ["walls", 2], ("walls", True), ("near",), ("even",), ("rest",)] + ODD_VALUES
+# Some standings of some webs, for functions that take just these; of the last web there are too many to go through.
+STANDINGS = [[FORK, FIVE], [FORK, (1, 1, 0, 0)], [STAR, SIX], [STAR, (1,) * 6], [ROW_5, (0, 1, 0, 1)], [PAIR, (7,)],
+             [ROUND_5, (0, 1, 1, 0, 0)], [ROW_5, (0,) * 4], [path_web(24, 1), (1, 0, 1, 0, 1, 0, 1, 0, 1) + (0,) * 14],
+             [full_web(7, 1), (1,) + (0,) * 20]]
+WEBS = [[web] for web, _ in STANDINGS] + [[KITE], [FULL_4], [ring_web(24, 9)], [board_web(2, 3, 1)]]
+TOTALS = [0, 1, 2, -1, 10 ** 30]
 WAYS = [WAY, list(WAY), WAY[1:], ()] + ODD_VALUES + [WAY + (value,) for value in ODD_VALUES]
 
 # For each module its functions, their arguments, and some calls.
@@ -65,6 +76,64 @@ INTERFACE = {
     "meets": [
         ("meeting_paper", "web", [[STAR], [FORK], [FULL_4]]),
         ("meeting_holds", "web value", [[FORK, (0, ("sides", 0, 1))]] + [[FORK, value] for value in ODD_VALUES]),
+    ],
+    "pairings": [
+        ("is_pairing", "web standing", STANDINGS),
+        ("holes_of", "web standing", STANDINGS),
+        ("partner_of", "web standing place", [call + [place] for call in STANDINGS for place in (0, 1)]),
+        ("passed", "web standing place hole", [call + [place, 2] for call in STANDINGS[:8] for place in (0, 1)]),
+        ("dropped", "web standing place hole other", [[FORK, FIVE, 0, 2, 3], [FORK, FIVE, 0, 2, 1]]),
+    ],
+    "lessening": [
+        ("fewest", "web standing", STANDINGS),
+        ("lessened", "web standing", STANDINGS),
+    ],
+    "leading": [
+        ("base_of", "web standing", STANDINGS),
+        ("led_to_base", "web standing", STANDINGS),
+    ],
+    "walls": [
+        ("walls_of", "web standing", STANDINGS),
+        ("is_near", "web standing", STANDINGS),
+    ],
+    "joining": [
+        ("class_of", "web standing", STANDINGS),
+        ("joined", "web one other", [call + [call[1][::-1]] for call in STANDINGS]),
+        ("way_between", "web one other", [call + [call[1][::-1]] for call in STANDINGS]),
+    ],
+    "joinpapers": [
+        ("paper_holds", "web one other value", [[ROW_5, (0, 0, 0, 0), (1, 0, 0, 0), value] for value in PAPERS]),
+    ],
+    "classes": [
+        ("uneven_classes", "web", WEBS),
+        ("class_count", "web", WEBS),
+    ],
+    "wallrows": [
+        ("standing_at", "web sort value", [[web, sort, 1] for web in (ROW_5, STAR, FORK) for sort in SORTS]
+         + [[web, sort, value] for web, sort in ((ROW_5, ("walls", 2)), (STAR, ("near",))) for value in ODD_VALUES]),
+        ("number_of", "web standing", STANDINGS),
+    ],
+    "evens": [
+        ("even_sums", "web", WEBS),
+        ("even_count", "web", WEBS),
+        ("least_even", "web total", [call + [total] for call in WEBS for total in TOTALS]),
+    ],
+    "evencounts": [
+        ("even_boards", "m most total", [[m, 2, total] for m in (1, 2, 3) for total in TOTALS]),
+        ("even_fulls", "n most total", [[n, 2, total] for n in (2, 3, 4) for total in TOTALS]),
+    ],
+    "evenflows": [
+        ("even_with", "web total", [call + [total] for call in WEBS for total in TOTALS]),
+        ("lack_paper", "web total", [call + [total] for call in WEBS for total in TOTALS]),
+        ("lack_holds", "web total value", [[web, 1, value] for web in (FORK, ROW, FULL_4)
+                                           for value in [("sides",), ("few", (1, 2)), ("few", [1, 2])] + ODD_VALUES]),
+    ],
+    "holes": [
+        ("hole_walk", "web standing", STANDINGS),
+        ("pairings", "web many", [call + [many] for call in WEBS for many in (0, 1, 2, 5, 10 ** 30)]),
+        ("nearest_pairs", "web standing", STANDINGS),
+        ("may_drop", "web standing", STANDINGS),
+        ("is_stubborn", "web standing", STANDINGS),
     ],
 }
 

@@ -13,7 +13,7 @@ NODES = (
     "Tuple List Dict Set Attribute Subscript Slice Call keyword Return If While For Break Continue Pass Raise Try "
     "ExceptHandler BoolOp And Or UnaryOp Not USub BinOp Add Sub Mult FloorDiv Mod Pow BitAnd BitOr BitXor Compare Eq "
     "NotEq Lt LtE Gt GtE Is IsNot In NotIn IfExp ListComp DictComp SetComp comprehension JoinedStr FormattedValue "
-    "Starred Lambda Delete Assert"
+    "Starred Lambda Delete Assert LShift RShift"
 ).split()
 
 BUILTINS = (
@@ -25,6 +25,13 @@ METHODS = (
     "append clear copy count endswith extend find get index insert isdigit items join keys partition pop remove "
     "replace setdefault split startswith strip update values"
 ).split()
+
+# What may be imported beside the modules of the package.
+LIBRARY = {"math": ["comb", "gcd"]}
+
+# No name begins with these.
+BEGINNINGS = ("__", "_wall", "_pe_", "_dcw_", "_enum_", "_cm_", "_twin_re_", "_lay_", "_law_", "_stub_", "_sre",
+              "_cold", "_outside", "_record", "_written_out", "_member_names", "_tuplegetter")
 
 BARRED = ("mro elements open input law register type typing enum Enum namedtuple dataclass overload contextmanager "
           "exec eval compile globals locals vars dir id help exit quit hash next iter map round filter print").split()
@@ -105,15 +112,69 @@ class LanguageTest(unittest.TestCase):
             table[name[:-3]] = []
             for node in ast.walk(tree):
                 if isinstance(node, ast.ImportFrom):
-                    self.assertEqual((node.level, node.module.split(".")[0]), (0, "unevenroads"), name)
                     self.assertEqual([alias.asname for alias in node.names], [None] * len(node.names), name)
+                    if node.module in LIBRARY:
+                        self.check_library(name, tree, node)
+                        continue
+                    self.assertEqual((node.level, node.module.split(".")[0]), (0, "unevenroads"), name)
                     table[name[:-3]].append(node.module.split(".")[1])
         while table:
             free = [name for name in table if not [used for used in table[name] if used in table]]
             self.assertNotEqual(free, [], "these files import from each other in a round: " + str(sorted(table)))
             table = {name: table[name] for name in table if name not in free}
 
+    def check_library(self, name, tree, imported):
+        """What is imported is called by its bare name only, with all arguments by position."""
+        words = [alias.name for alias in imported.names]
+        for word in words:
+            self.assertIn(word, LIBRARY[imported.module], name)
+        calls = [node for node in ast.walk(tree) if isinstance(node, ast.Call) and isinstance(node.func, ast.Name)
+                 and node.func.id in words]
+        self.assertEqual([node.keywords for node in calls], [[]] * len(calls), name)
+        named = [node for node in ast.walk(tree) if isinstance(node, ast.Name) and node.id in words]
+        self.assertEqual(len(named), len(calls), name)
+
+    def test_classes(self):
+        methods, attributes = self.own_names()
+        self.assertEqual([word for word in methods if word in attributes], [])
+        for name, _, tree in sources():
+            for node in ast.walk(tree):
+                if isinstance(node, ast.Attribute):
+                    self.assertIn(node.attr, METHODS + methods + attributes, (name, node.lineno))
+                    if isinstance(node.ctx, ast.Store):
+                        self.assertEqual(node.value.id, "self", name)
+
+    def own_names(self):
+        """The names of the methods, and of the attributes, of all classes of the package."""
+        methods, attributes = [], []
+        for _, _, tree in sources():
+            for node in ast.walk(tree):
+                if isinstance(node, ast.ClassDef):
+                    methods.extend([item.name for item in node.body if isinstance(item, ast.FunctionDef)])
+                if isinstance(node, ast.Attribute) and isinstance(node.ctx, ast.Store):
+                    attributes.append(node.attr)
+        return methods, attributes
+
+    def test_beginnings_of_names(self):
+        for name, text, tree in sources():
+            self.assertNotIn("_wall", text, name)
+            for node in ast.walk(tree):
+                for field in ("id", "attr", "name", "arg"):
+                    word = getattr(node, field, None)
+                    if isinstance(word, str) and word != "__init__":
+                        self.assertFalse(word.startswith(BEGINNINGS), (name, word))
+
+    def test_sets_stand_beside_in_or_directly_in_calls(self):
+        for name, _, tree in sources():
+            inner = [part for node in ast.walk(tree) if isinstance(node, (ast.Compare, ast.Call))
+                     for part in ast.iter_child_nodes(node)]
+            for node in ast.walk(tree):
+                made = isinstance(node, ast.Call) and isinstance(node.func, ast.Name) and node.func.id == "set"
+                if made or isinstance(node, (ast.Set, ast.SetComp)):
+                    self.assertIn(node, inner, (name, node.lineno))
+
     def test_calls(self):
+        methods, _ = self.own_names()
         for name, _, tree in sources():
             known = list(BUILTINS)
             for node in ast.walk(tree):
@@ -125,7 +186,7 @@ class LanguageTest(unittest.TestCase):
                 if isinstance(node, ast.Call) and isinstance(node.func, ast.Name):
                     self.assertIn(node.func.id, known, (name, node.lineno))
                 elif isinstance(node, ast.Call):
-                    self.assertIn(node.func.attr, METHODS, (name, node.lineno))
+                    self.assertIn(node.func.attr, METHODS + methods, (name, node.lineno))
 
     def test_words_that_are_not_used(self):
         for name, _, tree in sources():

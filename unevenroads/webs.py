@@ -78,6 +78,14 @@ def roads_at(web, place):
     return tuple(sorted(found))
 
 
+def road_between(web, a, b):
+    """The road with the ends a and b, in either order; None if there is none."""
+    for place, road in roads_at(web, a):
+        if place == b:
+            return road
+    return None
+
+
 def road_counts(web):
     """How many roads each place has."""
     return tuple([len(roads_at(web, place)) for place in range(web[0])])
