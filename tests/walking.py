@@ -3,7 +3,7 @@
 from itertools import combinations
 from random import Random
 
-from tests.samples import every_standing, mixed, web_of
+from tests.samples import SMALL_WEBS, every_standing, every_tree, every_web, mixed, web_of
 from unevenroads.kinds import row_of
 from unevenroads.renamed import renamed_web
 from unevenroads.shapes import board_web, full_web, path_web, ring_web
@@ -165,3 +165,43 @@ def parted_by(web, walls, first):
             load = 1 - load
         loads[web[1].index(tuple(sorted((row[i], row[(i + 1) % web[0]]))))] = load
     return tuple(loads)
+
+
+def let_here(web, standing):
+    """All pairs (deed, standing behind it) of deeds that are let, ascending."""
+    sums = place_sums(web, standing)
+    found = []
+    for road, (a, b) in enumerate(web[1]):
+        for by in (-1, 1):
+            if sums[a] != sums[b] and 0 <= standing[road] + by <= web[2][road]:
+                found.append(((road, by), standing[:road] + (standing[road] + by,) + standing[road + 1:]))
+    return found
+
+
+def distances(web, standing, closed=()):
+    """By how few deeds, none of them on a closed road, each standing can be come to."""
+    told = {standing: 0}
+    reached = [standing]
+    for one in reached:
+        for (road, _), other in let_here(web, one):
+            if road not in closed and other not in told:
+                told[other] = told[one] + 1
+                reached.append(other)
+    return told
+
+
+# A ring of wide roads of which just 2000 standings are uneven: 5 * 5 * 9 * 9 in all, 25 of them even.
+CLASS_2000 = (4, ((0, 1), (0, 3), (1, 2), (2, 3)), (4, 4, 8, 8))
+# The next greater class of such a row: 2016 standings of a tree with just one even one.
+CLASS_2015 = (5, ((0, 1), (0, 2), (0, 3), (0, 4)), (3, 6, 7, 8))
+CLASS_300 = (4, ((0, 1), (0, 3), (1, 2), (2, 3)), (2, 4, 6, 2))
+CLASS_40 = (3, ((0, 1), (0, 2), (1, 2)), (1, 2, 6))
+CLASS_41 = (3, ((0, 1), (1, 2)), (5, 6))
+
+
+def some_small_webs():
+    """Small webs of all kinds, bearing 1 or more, with some standings each at most."""
+    webs = SMALL_WEBS[:8] + SMALL_WEBS[9:] + [web for n in (2, 3, 4) for web in every_web(n)] + every_web(5)[5::60]
+    webs.extend([bearing(web, Random(at), 2) for at, web in enumerate(every_web(4)[::3])])
+    webs.extend([web_of(n, roads) for n, step in ((5, 20), (6, 200)) for roads in every_tree(n)[::step]])
+    return webs + small_rows()[:4]

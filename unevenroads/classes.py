@@ -5,6 +5,7 @@ from math import comb
 from unevenroads.evens import even_count, many_standings
 from unevenroads.kinds import kind_of
 from unevenroads.parted import elder_tree
+from unevenroads.sorts import sort_of
 from unevenroads.values import is_from_to, is_tuple_of
 
 
@@ -37,6 +38,14 @@ def counted_size(web, sort):
     if kind == "path":
         return comb(web[0], sort[1])
     return 2 * comb(web[0], sort[1])
+
+
+def class_size(web, standing):
+    """How many standings are joined to this one, itself too; TooMany as uneven_classes, if it is uneven."""
+    sort = sort_of(web, standing)
+    if sort == ("even",):
+        return 1
+    return dict(uneven_classes(web))[sort]
 
 
 def class_count(web):

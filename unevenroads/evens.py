@@ -2,10 +2,10 @@
 
 from unevenroads.bounds import MAX_SEEN
 from unevenroads.errors import TooMany
-from unevenroads.kinds import is_ring, row_of
+from unevenroads.kinds import is_ring, row_roads
 from unevenroads.parted import is_tree
 from unevenroads.standings import sums_of
-from unevenroads.webs import road_between, roads_at
+from unevenroads.webs import roads_at
 
 
 def even_sums(web):
@@ -101,12 +101,11 @@ def _inwards(web):
 
 def _in_ring(web):
     """The standings of a ring in which each second road of the row bears alike."""
-    row = row_of(web)
-    ring = [road_between(web, row[i], row[(i + 1) % len(row)]) for i in range(len(row))]
+    ring = row_roads(web)
     told = []
     for first in range(max(web[2]) + 1):
         for second in range(max(web[2]) + 1):
-            loads = [0] * len(row)
+            loads = [0] * len(ring)
             for i, road in enumerate(ring):
                 loads[road] = second if i % 2 == 1 else first
             told.extend(_if_borne(web, loads))

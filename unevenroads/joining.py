@@ -21,12 +21,17 @@ def joined(web, one, other):
 
 def way_between(web, one, other):
     """A way from one to the other; NotJoined with a paper if there is none."""
+    check_joined(web, one, other)
     if one == other:
         return ()
-    if not joined(web, one, other):
-        raise NotJoined(_paper_of(sort_of(web, one), sort_of(web, other)))
     way = led_to_base(web, one) + turned(led_to_base(web, other))
     return shortened(web, one, way)
+
+
+def check_joined(web, one, other):
+    """Raises NotJoined with a paper if no way leads from one to the other."""
+    if not joined(web, one, other):
+        raise NotJoined(_paper_of(sort_of(web, one), sort_of(web, other)))
 
 
 def _paper_of(sort, further):

@@ -2,7 +2,7 @@
 
 from unevenroads.errors import Unfit
 from unevenroads.parted import has_elder, is_tree
-from unevenroads.webs import road_counts, roads_at
+from unevenroads.webs import road_between, road_counts, roads_at
 
 
 def is_path(web):
@@ -46,3 +46,9 @@ def row_of(web):
         fresh = [place for place, _ in roads_at(web, row[-1]) if place not in row]
         row.append(fresh[0])
     return tuple(row)
+
+
+def row_roads(web):
+    """Which road of a path or a ring each of its row roads is; Unfit for other webs."""
+    row = row_of(web)
+    return [road_between(web, row[i], row[(i + 1) % len(row)]) for i in range(len(web[1]))]

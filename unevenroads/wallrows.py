@@ -4,7 +4,7 @@ from math import comb
 
 from unevenroads.classes import counted_size
 from unevenroads.errors import Unfit
-from unevenroads.kinds import kind_of, row_of
+from unevenroads.kinds import kind_of, row_roads
 from unevenroads.leading import near_pairing
 from unevenroads.parted import elder_tree
 from unevenroads.sorts import sort_of
@@ -19,7 +19,7 @@ def standing_at(web, sort, value):
     if size is None or not is_from_to(value, 0, size - 1):
         raise Unfit()
     if sort == ("near",):
-        return _near_standings(web)[value]
+        return near_standings(web)[value]
     if kind_of(web) == "path":
         walls = _chosen(web[0], sort[1], value)
         return _parted_by(web, walls, 1 if 0 in walls else 0)
@@ -32,11 +32,11 @@ def number_of(web, standing):
     if counted_size(web, sort) is None:
         raise Unfit()
     if sort == ("near",):
-        return _near_standings(web).index(standing)
+        return near_standings(web).index(standing)
     number = _number_of_chosen(web[0], walls_of(web, standing))
     if kind_of(web) == "path":
         return number
-    return 2 * number + standing[_row_roads(web)[0]]
+    return 2 * number + standing[row_roads(web)[0]]
 
 
 def _chosen(n, k, number):
@@ -63,24 +63,18 @@ def _number_of_chosen(n, chosen):
     return number
 
 
-def _row_roads(web):
-    """The road of each row road of a path or a ring."""
-    row = row_of(web)
-    return [road_between(web, row[i], row[(i + 1) % len(row)]) for i in range(len(web[1]))]
-
-
 def _parted_by(web, walls, first):
     """The standing with these walls in which the first row road has the load first."""
     loads = [0] * len(web[1])
     load = first
-    for i, road in enumerate(_row_roads(web)):
+    for i, road in enumerate(row_roads(web)):
         if i in walls and i > 0:
             load = 1 - load
         loads[road] = load
     return tuple(loads)
 
 
-def _near_standings(web):
+def near_standings(web):
     """All near standings, ascending: those with a hole, and those in which a middle has both roads laid."""
     spots, tree = elder_tree(web)
     found = [near_pairing(web, spot) for spot in spots]
