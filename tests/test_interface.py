@@ -6,8 +6,12 @@ from copy import deepcopy
 from importlib import import_module
 
 from tests.samples import FORK, FULL_4, KITE, ODD_VALUES, PAIR, ROUND_5, ROW, ROW_5, STAR
+from unevenroads.benches import Bench
 from unevenroads.errors import UnevenError
+from unevenroads.games import turns_of
+from unevenroads.kept import Kept
 from unevenroads.shapes import board_web, full_web, path_web, ring_web
+from unevenroads.shells import Shell
 
 DEEDS = [(1, 1), [1, 1], (1, -1)] + ODD_VALUES
 WAY = ((1, 1), (0, -1), (2, 1))
@@ -21,6 +25,13 @@ STANDINGS = [[FORK, FIVE], [FORK, (1, 1, 0, 0)], [STAR, SIX], [STAR, (1,) * 6], 
              [full_web(7, 1), (1,) + (0,) * 20]]
 WEBS = [[web] for web, _ in STANDINGS] + [[KITE], [FULL_4], [ring_web(24, 9)], [board_web(2, 3, 1)]]
 TOTALS = [0, 1, 2, -1, 10 ** 30]
+# Two standings of a web each: joined, not joined, and one that is both.
+PAIRS = [call + [other] for call in STANDINGS for other in (call[1], call[1][::-1], (1,) + (0,) * (len(call[1]) - 1))]
+GOALS = ((0, 1, 1, 1), (1, 1, 0, 0), (1, 1, 1, 0))
+GAMES = [[ROW_5, one, GOALS] for one in ((1, 1, 0, 0), (1, 1, 1, 1), (0, 0, 1, 0), (0, 0, 0, 0), (1, 0, 1, 0))]
+GAMES.append([full_web(7, 1), (1,) + (0,) * 20, ((0,) * 21,)])
+TABLE = turns_of(ROW_5, (1, 0, 0, 0), GOALS)
+ADD = ("add", "row", ROW_5, (1, 0, 0, 0))
 WAYS = [WAY, list(WAY), WAY[1:], ()] + ODD_VALUES + [WAY + (value,) for value in ODD_VALUES]
 
 # For each module its functions, their arguments, and some calls.
@@ -135,7 +146,66 @@ INTERFACE = {
         ("may_drop", "web standing", STANDINGS),
         ("is_stubborn", "web standing", STANDINGS),
     ],
+    "spheres": [
+        ("spheres", "web standing", STANDINGS),
+        ("farthest", "web standing", STANDINGS),
+        ("least_way", "web one other", PAIRS),
+    ],
+    "walldeeds": [
+        ("wall_deeds", "web one other", PAIRS),
+        ("wall_way", "web one other", PAIRS),
+    ],
+    "chances": [
+        ("chances", "web standing draws", [call + [draws] for call in STANDINGS for draws in (0, 1, 3, 12)]),
+        ("long_run", "web standing", STANDINGS),
+    ],
+    "letcounts": [
+        ("let_total", "web sort", [[web, sort] for web in (ROW_5, STAR, FORK) for sort in SORTS]),
+        ("mean_let", "web sort", [[web, sort] for web in (ROW_5, STAR, FORK) for sort in SORTS]),
+    ],
+    "meandraws": [
+        ("mean_draws", "web one other", PAIRS),
+    ],
+    "wishes": [
+        ("wished", "web standing wish", PAIRS + [call[:2] + [(None,) * len(call[1])] for call in STANDINGS]),
+        ("load_span", "web standing road", [call + [road] for call in STANDINGS for road in (0, len(call[1]) - 1)]),
+    ],
+    "closed": [
+        ("closed_way", "web one other closed", [call + [closed] for call in PAIRS for closed in ((), (0,))]),
+    ],
+    "joints": [
+        ("joint", "one other a b", [[ROW, STAR, 1, 6], [path_web(24, 1), PAIR, 0, 0]]),
+        ("bridged", "one other a b most", [[ROW, STAR, 1, 6, 9], [path_web(24, 1), PAIR, 0, 0, 1]]),
+    ],
+    "games": [
+        ("led_turns", "web standing goals", GAMES),
+        ("turns_of", "web standing goals", GAMES),
+        ("turns_hold", "web standing goals value",
+         [GAMES[1] + [value] for value in [TABLE, list(TABLE), TABLE[1:]] + ODD_VALUES]),
+        ("led_deed", "web standing goals road", [call + [road] for call in GAMES for road in (0, 3)]),
+        ("barring_road", "web standing goals", GAMES),
+    ],
+    "logs": [
+        ("log_text", "edits", [[()], [(ADD, ("batch", (("drop", "row"),)))]]),
+        ("read_log", "value", [["(drop,row)\n(lay"], ["(drop,-0)\n"]] + [[value] for value in ODD_VALUES]),
+        ("bench_behind", "edits", [[()], [(ADD, ("lay", "row", 1))], [(ADD, ADD)]]),
+    ],
 }
+
+# The classes, and what of them is listed.
+CLASSES = {
+    "benches": (Bench, "add drop call lay take go widen batch size joined lets undo redo at copy attempt",
+                "shelf version log made"),
+    "shells": (Shell, "say", ""),
+    "kept": (Kept, "lay take back news", "standing sums unlike version looks"),
+}
+
+# All modules of the interface.
+MODULES = (
+    "bounds errors webs shapes standings webtexts renamed deeds ways kinds parted meets pairings lessening leading walls "
+    "joining joinpapers classes wallrows evens evencounts evenflows holes spheres walldeeds chances letcounts meandraws "
+    "wishes closed joints games benches logs shells kept"
+).split()
 
 
 def outcome(function, arguments, names):
@@ -166,6 +236,21 @@ class InterfaceTest(unittest.TestCase):
                 self.assertIs(parameter.kind, inspect.Parameter.POSITIONAL_OR_KEYWORD)
                 self.assertIs(parameter.default, inspect.Parameter.empty)
 
+    def test_all_modules_are_looked_at(self):
+        self.assertEqual(sorted(MODULES), sorted(list(INTERFACE) + list(CLASSES) + ["bounds", "errors"]))
+        self.assertEqual(len(MODULES), 37)
+
+    def test_each_class_is_defined_in_its_file(self):
+        made = {"benches": Bench(), "shells": Shell(), "kept": Kept(ROW_5, (1, 0, 0, 0))}
+        for module, (own, methods, properties) in CLASSES.items():
+            self.assertIs(getattr(import_module("unevenroads." + module), own.__name__), own)
+            self.assertEqual(own.__module__, "unevenroads." + module)
+            for name in methods.split():
+                self.assertTrue(inspect.isfunction(vars(own)[name]), name)
+            for name in properties.split():
+                self.assertIsInstance(vars(own)[name], property)
+                getattr(made[module], name)
+
     def test_calls_by_place_and_by_name_tell_the_same(self):
         for _, function, words, calls in self.each():
             for arguments in calls:
@@ -178,4 +263,6 @@ class InterfaceTest(unittest.TestCase):
     def test_what_is_returned_cannot_change(self):
         for _, function, _, calls in self.each():
             for arguments in calls:
-                hash(outcome(function, arguments, []))
+                told = outcome(function, arguments, [])
+                if not isinstance(told, Bench):
+                    hash(told)

@@ -18,7 +18,7 @@ NODES = (
 
 BUILTINS = (
     "len range enumerate zip min max sum abs sorted reversed int str bool list tuple dict set isinstance any all "
-    "divmod ValueError"
+    "divmod ValueError iter property"
 ).split()
 
 METHODS = (
@@ -34,7 +34,13 @@ BEGINNINGS = ("__", "_wall", "_pe_", "_dcw_", "_enum_", "_cm_", "_twin_re_", "_l
               "_cold", "_outside", "_record", "_written_out", "_member_names", "_tuplegetter")
 
 BARRED = ("mro elements open input law register type typing enum Enum namedtuple dataclass overload contextmanager "
-          "exec eval compile globals locals vars dir id help exit quit hash next iter map round filter print").split()
+          "exec eval compile globals locals vars dir id help exit quit hash next map round filter print").split()
+
+# Parameters and local variables that hold a function.
+FUNCTION_VALUES = ["work", "action", "question"]
+
+# The double-underscore names that may stand in the package.
+DOUBLE = ["__init__", "__len__", "__getitem__", "__iter__", "__eq__", "__class__", "__name__"]
 
 
 def sources():
@@ -73,8 +79,53 @@ class LanguageTest(unittest.TestCase):
                     self.assertNotIsInstance(node.value, (float, complex), name)
                     if isinstance(node.value, str):
                         self.assertNotIn("%", node.value, name)
-                if isinstance(node, ast.FunctionDef):
+                if isinstance(node, ast.FunctionDef) and node not in self.properties(tree):
                     self.assertEqual(node.decorator_list, [], (name, node.name))
+
+    def properties(self, tree):
+        """The methods under property alone: with no other parameter and with just one statement, a return."""
+        found = []
+        for owner in ast.walk(tree):
+            for node in owner.body if isinstance(owner, ast.ClassDef) else []:
+                if isinstance(node, ast.FunctionDef) and "property" in [ast.unparse(by) for by in node.decorator_list]:
+                    self.assertEqual(len(node.decorator_list), 1)
+                    self.assertEqual([word.arg for word in node.args.args], ["self"])
+                    self.assertEqual([item.__class__ for item in node.body], [ast.Expr, ast.Return])
+                    found.append(node)
+        return found
+
+    def test_properties(self):
+        """No property has the name of a method or of an attribute that is assigned, and none has a setter."""
+        names = [node.name for _, _, tree in sources() for node in self.properties(tree)]
+        self.assertEqual(sorted(names), sorted("shelf version log made standing sums unlike version looks".split()))
+        methods, attributes = self.own_names()
+        for name in names:
+            self.assertNotIn(name, attributes)
+            self.assertEqual(methods.count(name), names.count(name))
+
+    def test_benches_are_iterated_over_and_compared_in_the_one_way(self):
+        """With __getitem__, __iter__ and __len__ much is barred that no other rule of these tests sees."""
+        bodies = {}
+        for name, text, tree in sources():
+            for word in ("(type)", "Meta", "metaclass=", "reversed(", ".sort(", "yield", "import product", "lambda",
+                         ".add("):
+                self.assertNotIn(word, text, name)
+            for node in ast.walk(tree):
+                if isinstance(node, ast.FunctionDef) and node.name in DOUBLE[1:]:
+                    self.assertEqual((name, len(node.body), node.body[0].__class__), ("benches.py", 1, ast.Return))
+                    bodies[node.name] = ast.unparse(node.body[0])
+                if isinstance(node, ast.Call) and isinstance(node.func, ast.Name) and node.func.id == "iter":
+                    self.assertEqual(name, "benches.py")
+        self.assertEqual(bodies, {
+            "__len__": "return len(self._table)", "__getitem__": "return entry_of(self._table, at)",
+            "__iter__": "return iter(self._table)",
+            "__eq__": "return isinstance(other, Bench) and self._table == other._table"})
+
+    def test_handlers_catch_own_errors_alone(self):
+        for name, _, tree in sources():
+            for node in ast.walk(tree):
+                if isinstance(node, ast.ExceptHandler):
+                    self.assertIn(node.type.id, ("UnevenError", "Unfit"), name)
 
     def test_module_level(self):
         for name, _, tree in sources():
@@ -140,9 +191,10 @@ class LanguageTest(unittest.TestCase):
         for name, _, tree in sources():
             for node in ast.walk(tree):
                 if isinstance(node, ast.Attribute):
-                    self.assertIn(node.attr, METHODS + methods + attributes, (name, node.lineno))
+                    self.assertIn(node.attr, METHODS + methods + attributes + DOUBLE[-2:], (name, node.lineno))
                     if isinstance(node.ctx, ast.Store):
                         self.assertEqual(node.value.id, "self", name)
+                        self.assertNotIn(node.attr, DOUBLE, name)
 
     def own_names(self):
         """The names of the methods, and of the attributes, of all classes of the package."""
@@ -161,7 +213,7 @@ class LanguageTest(unittest.TestCase):
             for node in ast.walk(tree):
                 for field in ("id", "attr", "name", "arg"):
                     word = getattr(node, field, None)
-                    if isinstance(word, str) and word != "__init__":
+                    if isinstance(word, str) and word not in DOUBLE:
                         self.assertFalse(word.startswith(BEGINNINGS), (name, word))
 
     def test_sets_stand_beside_in_or_directly_in_calls(self):
@@ -176,7 +228,7 @@ class LanguageTest(unittest.TestCase):
     def test_calls(self):
         methods, _ = self.own_names()
         for name, _, tree in sources():
-            known = list(BUILTINS)
+            known = BUILTINS + FUNCTION_VALUES
             for node in ast.walk(tree):
                 if isinstance(node, (ast.FunctionDef, ast.ClassDef)):
                     known.append(node.name)

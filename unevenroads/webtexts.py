@@ -43,14 +43,14 @@ def _read_road(word):
 
 def _read_number(text):
     """The integer that text tells in decimal, without noughts ahead of other figures."""
-    if not _is_figures(text) or len(text) > MOST_FIGURES:
+    if not is_figures(text) or len(text) > MOST_FIGURES:
         raise BadText()
     if text[0] == "0" and len(text) > 1:
         raise BadText()
     return int(text)
 
 
-def _is_figures(text):
+def is_figures(text):
     """Whether text is one figure or more, and nothing else."""
     return text != "" and all([sign in FIGURES for sign in text])
 
@@ -62,7 +62,7 @@ def standing_text(standing):
 
 def read_standing(web, value):
     """The standing of web of which value is the text; BadText if there is none."""
-    if not isinstance(value, str) or not _is_figures(value):
+    if not isinstance(value, str) or not is_figures(value):
         raise BadText()
     standing = tuple([int(sign) for sign in value])
     if standing_error(web, standing) is not None:
