@@ -4,7 +4,7 @@ from unevenroads.bounds import MAX_EDITS
 from unevenroads.classes import class_size
 from unevenroads.deeds import let_deeds
 from unevenroads.edits import behind_edit, entry_of, shelf_of
-from unevenroads.errors import (BadStanding, NothingToRedo, NothingToUndo, NoVersion, TooManyEdits, UnevenError)
+from unevenroads.errors import BadStanding, NothingToRedo, NothingToUndo, NoVersion, TooManyEdits, UnevenError
 from unevenroads.joining import joined
 from unevenroads.sorts import sort_of
 from unevenroads.standings import standing_error
