@@ -26,6 +26,11 @@ METHODS = (
     "replace setdefault split startswith strip update values"
 ).split()
 
+# Methods that change what they are called of, and calls that go over the items of what they are handed, as it is then.
+CHANGING = "add append clear discard extend insert pop remove reverse setdefault sort update".split()
+OVER = "enumerate filter iter map reversed zip".split()
+VIEWS = "items keys values".split()
+
 # What may be imported beside the modules of the package.
 LIBRARY = {"math": ["comb", "gcd"]}
 
@@ -50,6 +55,78 @@ def sources():
         text = path.read_text(encoding="ascii")
         found.append((path.name, text, ast.parse(text)))
     return found
+
+
+def key_of(node):
+    """A name, an attribute of whatever object, or an item at whatever place, in one form; None for all else."""
+    if isinstance(node, ast.Name):
+        return node.id
+    if isinstance(node, ast.Attribute):
+        return "." + node.attr
+    if isinstance(node, ast.Subscript) and not isinstance(node.slice, ast.Slice):
+        return None if key_of(node.value) is None else key_of(node.value) + "[]"
+    return None
+
+
+def meant_by(node):
+    """The keys of all that the value may be, or goes over without having copied it: one for each choice, at least."""
+    if isinstance(node, ast.IfExp):
+        return meant_by(node.body) + meant_by(node.orelse)
+    if isinstance(node, ast.BoolOp):
+        return [key for part in node.values for key in meant_by(part)]
+    if isinstance(node, ast.Call) and isinstance(node.func, ast.Name) and node.func.id in OVER:
+        return [key for part in node.args for key in meant_by(part)]
+    if isinstance(node, ast.Call) and isinstance(node.func, ast.Attribute) and node.func.attr in VIEWS:
+        return meant_by(node.func.value)
+    return [] if key_of(node) is None else [key_of(node)]
+
+
+def assigned_pairs(target, value):
+    """The pairs of keys that an assignment makes the same."""
+    if isinstance(target, ast.Tuple) and isinstance(value, ast.Tuple):
+        return [pair for parts in zip(target.elts, value.elts) for pair in assigned_pairs(*parts)]
+    return [(key_of(target), key) for key in meant_by(value) if key_of(target) is not None]
+
+
+def same_keys(owner, keys):
+    """These keys, and all that stand for the same somewhere in the function, be it ahead or behind."""
+    pairs = [pair for node in ast.walk(owner) if isinstance(node, ast.Assign)
+             for target in node.targets for pair in assigned_pairs(target, node.value)]
+    found, fresh = [], list(keys)
+    while fresh:
+        found.extend(fresh)
+        fresh = [other for pair in pairs for key, other in (pair, pair[::-1]) if key in found and other not in found]
+    return found
+
+
+def changes_in(node):
+    """The pairs (row, key) of all that is changed in a piece of code."""
+    found = []
+    for part in ast.walk(node):
+        changed = None
+        if isinstance(part, ast.Call) and isinstance(part.func, ast.Attribute) and part.func.attr in CHANGING:
+            changed = part.func.value
+        elif isinstance(part, ast.Subscript) and not isinstance(part.ctx, ast.Load):
+            changed = part.value
+        elif isinstance(part, ast.AugAssign):
+            changed = part.target
+        found.extend([(part.lineno, key) for key in meant_by(changed)])
+    return found
+
+
+def changed_while_walked(tree):
+    """The rows, ascending, in which something is changed that a loop or a comprehension around them goes over."""
+    rows = []
+    for owner in ast.walk(tree):
+        for node in ast.walk(owner) if isinstance(owner, ast.FunctionDef) else []:
+            walked, inner = [], []
+            if isinstance(node, ast.For):
+                walked, inner = [node.iter], node.body
+            elif isinstance(node, (ast.ListComp, ast.SetComp, ast.DictComp, ast.GeneratorExp)):
+                walked, inner = [part.iter for part in node.generators], [node]
+            keys = same_keys(owner, [key for part in walked for key in meant_by(part)])
+            rows.extend([row for part in inner for row, key in changes_in(part) if key in keys])
+    return sorted(set(rows))
 
 
 class LanguageTest(unittest.TestCase):
@@ -126,6 +203,47 @@ class LanguageTest(unittest.TestCase):
             for node in ast.walk(tree):
                 if isinstance(node, ast.ExceptHandler):
                     self.assertIn(node.type.id, ("UnevenError", "Unfit"), name)
+
+    def test_what_a_loop_goes_over_is_not_changed_in_it(self):
+        for name, _, tree in sources():
+            self.assertEqual(changed_while_walked(tree), [], name)
+
+    def test_changes_of_what_a_loop_goes_over_are_seen(self):
+        """By its name, another name, an attribute, an item, a view or a choice; told are the rows behind a def."""
+        for body, rows in (
+                ("for x in xs:\n xs.append(x)", [3]),
+                ("for x in xs:\n if x:\n  xs[0] = x\n  return x", [4]),
+                ("for x in xs:\n del xs[0]\n xs[1] += 1\n xs += [x]", [3, 4, 5]),
+                ("while rows:\n ys = []\n for x in xs:\n  ys.append(x)\n xs = ys", [5]),
+                ("ys = zs = xs\nfor x in ys:\n zs.pop()", [4]),
+                ("ys, n = xs, 0\nfor x in xs:\n ys.pop()", [4]),
+                ("for k, (x, y) in enumerate(zip(xs, ys)):\n ys.insert(0, x)", [3]),
+                ("for x in reversed(xs):\n xs.remove(x)", [3]),
+                ("it = zip(xs, ys)\nfor x, y in it:\n ys.append(x)", [4]),
+                ("for k, x in table.items():\n table[k + 1] = x", [3]),
+                ("for k in table:\n table.setdefault(k, []).append(k)", [3]),
+                ("for x in self.rows:\n self.rows.append(x)", [3]),
+                ("rows = self.rows\nfor x in rows:\n self.rows.append(x)", [4]),
+                ("for x in other.rows:\n self.rows.append(x)", [3]),
+                ("for x in rows[k]:\n rows[j].append(x)", [3]),
+                ("row = rows[k]\nfor x in row:\n rows[j].append(x)", [4]),
+                ("for x in xs if n else ys:\n ys.append(x)", [3]),
+                ("for x in xs or ys:\n ys.append(x)", [3]),
+                ("zs = xs if n else ys\nfor x in xs:\n zs.append(x)", [4]),
+                ("for x in xs:\n (ys if n else xs).append(x)", [3]),
+                ("return [xs.pop() for x in xs]", [2]),
+                ("return [x for y in ys for x in xs if ys.pop()]", [2]),
+                ("for x in list(xs):\n xs.append(x)", []),
+                ("for k, x in list(table.items()):\n table[k + 1] = x", []),
+                ("for x in xs[1:]:\n xs.append(x)", []),
+                ("for k in range(len(xs)):\n xs[k] = 0", []),
+                ("for x in xs:\n ys.append(x)\nxs.append(0)", []),
+                ("ys = list(xs)\nfor x in xs:\n ys.append(x)", []),
+                ("for x in xs:\n rows[x] = xs", []),
+                ("for row in rows:\n row.append(0)", []),
+                ("xs.extend([x for x in xs])", [])):
+            text = "def told(self, xs, ys, n):\n " + body.replace("\n", "\n ")
+            self.assertEqual(changed_while_walked(ast.parse(text)), rows, text)
 
     def test_module_level(self):
         for name, _, tree in sources():

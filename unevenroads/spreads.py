@@ -28,7 +28,7 @@ def _shares(alike, amount, most):
     for i, same in enumerate(alike):
         behind = len(alike) - i - 1
         longer = []
-        for shares, orders, left, many, equal in found:
+        for shares, orders, left, many, equal in list(found):
             greatest = min(left, shares[-1] if same else most)
             for share in range(max(0, left - behind * most), greatest + 1):
                 told = shares + (share,)

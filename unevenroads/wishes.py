@@ -73,7 +73,7 @@ def _with_changes(wants, start, end, number):
     found = {(start, 0): ()}
     for want in wants:
         longer = {}
-        for (load, changes), loads in found.items():
+        for (load, changes), loads in list(found.items()):
             for fresh in _loads_of(want):
                 key = (fresh, changes + abs(fresh - load))
                 if key not in longer:
